@@ -434,7 +434,7 @@ func TestNoGoroutineIsLeft(t *testing.T) {
 				e.Update(copies(whole), d.shards(s.k, 60))
 				e.Together(d.picks(50, 9), []api.Call{{Kind: api.CallVerify, Shards: whole}, restoring(api.CallReconstruct, whole, 1), {Kind: 9}})
 			}
-			for wait := 0; runtime.NumGoroutine() > was && wait < 100; wait++ {
+			for wait := 0; runtime.NumGoroutine() > was && wait < 2000; wait++ {
 				time.Sleep(time.Millisecond)
 			}
 			if now := runtime.NumGoroutine(); now > was {
